@@ -1,0 +1,1 @@
+"""Guesshush: programs that keep secrets from a machine that guesses."""
