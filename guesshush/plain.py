@@ -2,7 +2,8 @@
 
 from guesshush.errors import NotValid
 from guesshush.programs import SLOTS
-from guesshush.programs import asked, first_registers, is_in, item_at, loaded, loaded_secret, mixed
+from guesshush.programs import asked, changed, first_registers, is_in, item_at
+from guesshush.programs import loaded, loaded_secret, mixed, next_place, row_at
 
 # Where the counts have the number of these instructions.
 COUNTED = {"ask": 0, "mix": 1, "load": 2}
@@ -20,20 +21,6 @@ def first_state(program, secrets):
     }
 
 
-def changed(values, at, value):
-    """The tuple with this value at the index."""
-    return tuple([value if k == at else old for k, old in enumerate(values)])
-
-
-def row_at(program, state):
-    """The instruction at the place of the state; None if there is none."""
-    place = state["place"]
-    rows = program["rows"]
-    if place is None or not 0 <= place < len(rows):
-        return None
-    return rows[place]
-
-
 def value_of(state, r):
     """The value of the register r."""
     return item_at(state["registers"], r)
@@ -46,7 +33,7 @@ def outcome_of(row, meaning, state):
 
 def outcome(program, meaning, state):
     """The outcome of the test at the place of the state; None if there is no test."""
-    row = row_at(program, state)
+    row = row_at(program, state["place"])
     if row is None or row[0] != "test":
         return None
     return outcome_of(row, meaning, state)
@@ -74,18 +61,6 @@ def given(row, meaning, secrets, state):
         value = value_of(state, row[3])
         return value if is_in(meaning, row[2], value) else 0
     return item_at(state["slots"], row[2])
-
-
-def next_place(row, meaning, state):
-    """The place behind the instruction; None behind an end."""
-    word = row[0]
-    if word == "end":
-        return None
-    if word == "jump":
-        return row[1]
-    if word == "test" and outcome_of(row, meaning, state) == "out":
-        return row[3]
-    return state["place"] + 1
 
 
 def next_registers(row, meaning, secrets, state):
@@ -120,18 +95,24 @@ def seen_of(row, meaning, state):
     return None
 
 
-def after_step(program, meaning, secrets, state):
-    """The state behind the instruction at the place, and what is seen of it."""
-    row = row_at(program, state)
-    if row is None:
-        raise NotValid()
-    behind = {
-        "place": next_place(row, meaning, state),
+def made(row, meaning, secrets, state, place):
+    """The state behind the instruction, which goes on at this place."""
+    return {
+        "place": place,
         "registers": next_registers(row, meaning, secrets, state),
         "slots": next_slots(row, state),
         "counts": next_counts(row, state),
     }
-    return behind, (state["place"], seen_of(row, meaning, state))
+
+
+def after_step(program, meaning, secrets, state):
+    """The state behind the instruction at the place, and what is seen of it."""
+    place = state["place"]
+    row = row_at(program, place)
+    if row is None:
+        raise NotValid()
+    behind = next_place(row, place, outcome(program, meaning, state))
+    return made(row, meaning, secrets, state, behind), (place, seen_of(row, meaning, state))
 
 
 def run(program, meaning, secrets, steps):
@@ -139,7 +120,7 @@ def run(program, meaning, secrets, steps):
     state = first_state(program, secrets)
     view = []
     for _ in range(steps):
-        if row_at(program, state) is None:
+        if row_at(program, state["place"]) is None:
             break
         state, seen = after_step(program, meaning, secrets, state)
         view.append(seen)

@@ -20,10 +20,15 @@ FORMS = {
 }
 
 
+def is_natural(value):
+    """True if the value is an integer from 0 on."""
+    # isinstance would take True and False, which are not used as integers.
+    return type(value) is int and value >= 0
+
+
 def is_number(value, bound):
     """True if the value is an integer from 0 on and below the bound."""
-    # isinstance would take True and False, which are not used as integers.
-    return type(value) is int and 0 <= value < bound
+    return is_natural(value) and value < bound
 
 
 def is_ascending(value, bound):
@@ -75,10 +80,32 @@ def is_program(value):
     return is_ascending(value["secret"], REGISTERS) and are_rows(value["rows"])
 
 
-def item_at(values, k):
-    """The value with the number k; 0 if there is none."""
+def item_at(values, k, otherwise=0):
+    """The value with the number k; what is said otherwise if there is none."""
     # A negative index would count from the end.
-    return values[k] if 0 <= k < len(values) else 0
+    return values[k] if 0 <= k < len(values) else otherwise
+
+
+def changed(values, at, value):
+    """The tuple with this value at the index."""
+    return tuple([value if k == at else old for k, old in enumerate(values)])
+
+
+def row_at(program, place):
+    """The instruction at the place; None if there is none."""
+    return None if place is None else item_at(program["rows"], place, None)
+
+
+def next_place(row, place, way):
+    """The place behind the instruction, None behind an end; the way counts if it is a test."""
+    word = row[0]
+    if word == "end":
+        return None
+    if word == "jump":
+        return row[1]
+    if word == "test" and way == "out":
+        return row[3]
+    return place + 1
 
 
 def is_in(meaning, array, value):

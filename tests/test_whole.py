@@ -28,6 +28,25 @@ INTERFACE = {
         "outcome": ["program", "meaning", "state"],
         "run": ["program", "meaning", "secrets", "steps"],
     },
+    "guess": {
+        "Machine": ["program", "meaning", "secrets", "window"],
+        "view_of": ["program", "meaning", "secrets", "window", "directives"],
+    },
+    "source": {
+        "is_tree": ["value"],
+        "lower": ["tree", "secret"],
+        "run_tree": ["tree", "secret", "meaning", "secrets", "turns"],
+    },
+    "states": {
+        "first_state": ["program"],
+        "steps": ["program", "state", "window"],
+        "is_leak": ["program", "state", "window"],
+        "is_state": ["value"],
+    },
+}
+
+METHODS = {
+    ("guess", "Machine"): {"direct": ["directive"], "state": [], "open_guesses": [], "view": []},
 }
 
 
@@ -56,6 +75,12 @@ class WholeTest(unittest.TestCase):
                 self.assertEqual(found.__module__, loaded.__name__)
                 if arguments is not None:
                     self.assertEqual(list(inspect.signature(found).parameters), arguments)
+
+    def test_methods_stand_in_their_classes(self):
+        for (module, name), methods in METHODS.items():
+            own = vars(getattr(importlib.import_module("guesshush." + module), name))
+            for method, arguments in methods.items():
+                self.assertEqual(list(inspect.signature(own[method]).parameters), ["self", *arguments])
 
 
 if __name__ == "__main__":
