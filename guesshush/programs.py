@@ -68,16 +68,66 @@ def are_rows(value):
     return value[-1][0] in ("jump", "end")
 
 
-def is_program(value):
-    """True if the value is a program; it may be anything."""
+def has_keys(value, names):
+    """True if the value is a dict with these keys, which are strings in ascending order."""
     if type(value) is not dict:
         return False
     # Only strings can be sorted together for sure, so other keys are refused first.
-    if not all([type(key) is str for key in value]):
-        return False
-    if sorted(value) != ["rows", "secret"]:
+    return all([type(key) is str for key in value]) and sorted(value) == names
+
+
+def is_program(value):
+    """True if the value is a program; it may be anything."""
+    if not has_keys(value, ["rows", "secret"]):
         return False
     return is_ascending(value["secret"], REGISTERS) and are_rows(value["rows"])
+
+
+def are_integers(values):
+    """True if all of these values are integers."""
+    return all([type(value) is int for value in values])
+
+
+def is_integer_list(value):
+    """True if the value is a list of integers."""
+    return type(value) is list and are_integers(value)
+
+
+def is_array(value):
+    """True if the value is a dict whose keys are the integers that are in an array."""
+    return type(value) is dict and are_integers(list(value))
+
+
+def is_pair(value):
+    """True if the value is a tuple of two integers."""
+    return type(value) is tuple and len(value) == 2 and are_integers(value)
+
+
+def is_mixing(value):
+    """True if the value is a dict of what a mixing makes of pairs."""
+    if type(value) is not dict or not all([is_pair(pair) for pair in value]):
+        return False
+    return are_integers(list(value.values()))
+
+
+def is_meaning(value):
+    """True if the value is a meaning; it may be anything."""
+    if not has_keys(value, ["arrays", "asked", "loaded", "mixed"]):
+        return False
+    arrays = value["arrays"]
+    if type(arrays) is not tuple or len(arrays) != ARRAYS or not all([is_array(array) for array in arrays]):
+        return False
+    tables = value["mixed"]
+    if type(tables) is not list or not all([is_mixing(table) for table in tables]):
+        return False
+    return is_integer_list(value["asked"]) and is_integer_list(value["loaded"])
+
+
+def are_secrets(value):
+    """True if the value is secrets, of whichever program; it may be anything."""
+    if not has_keys(value, ["loaded", "registers"]):
+        return False
+    return is_integer_list(value["loaded"]) and is_integer_list(value["registers"])
 
 
 def item_at(values, k, otherwise=0):
